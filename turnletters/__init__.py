@@ -1,0 +1,1 @@
+"""Turnletters: webs told by words in which letters take turns."""
