@@ -15,6 +15,12 @@ INTERFACE = {
     "webs": {"is_web": ["thing"], "is_word": ["thing", "web"], "take_turns": ["web", "word", "one", "other"],
              "turned_web": ["many", "word"], "shows": ["web", "word"]},
     "texts": {"show": ["web"], "read": ["text"]},
+    "words": {"times": ["web", "word"], "is_even": ["web", "word"], "first_wrong": ["web", "word"],
+              "from_behind": ["web", "word"], "led_on": ["web", "word", "number"], "alone": ["web", "word", "some"],
+              "firsts": ["web", "word"], "longer": ["web", "word"]},
+    "runs": {"is_run": ["thing", "web"], "is_fault": ["thing", "web", "run"], "fault_of": ["web", "run"],
+             "first_good": ["web"], "good_many": ["web"]},
+    "search": {"word_for": ["web"]},
 }
 ERRORS = ["TurnError", "NoWeb", "NoWord", "NoPlace", "NoNumber", "NoRun", "TooMany", "NoLine", "NoText"]
 

@@ -31,12 +31,6 @@ SHOWN = (
     (6, "abcdeffedcba", ()),
 )
 
-NO_WORDS_OF_THREE = (
-    "", "a", "ab", "ac", "bc", "aabb", "abd", "abcd", "abcdef", "abcx", "xabc", "Abc", "abC", "ABC", "abc ", " abc",
-    "a bc", "abc\n", "a\tbc", "ab-c", "abc0", "012", "abc`", None, True, False, 0, 3, -1, 10 ** 29, [], ["a", "b", "c"],
-    ("a", "b", "c"), ("abc",), ["abc"], {}, {"a": 1, "b": 2, "c": 3}, {"abc": 1}, (0, 1, 2), (3, ()), (("abc",),),
-)
-
 
 class IsWeb(unittest.TestCase):
     """[2], [11]: what is a web, and what is none."""
@@ -104,7 +98,7 @@ class IsWord(unittest.TestCase):
         self.assertIs(is_word("aabbccdd", PATH), True)
 
     def test_what_is_none(self):
-        for thing in NO_WORDS_OF_THREE:
+        for thing in samples.NO_WORDS_OF_THREE:
             with self.subTest(thing=thing):
                 self.assertIs(is_word(thing, (3, ((0, 1),))), False)
 
@@ -186,7 +180,7 @@ class TakeTurns(unittest.TestCase):
                         take_turns(web, word, one, other)
 
     def test_no_word_goes_ahead_of_no_place(self):
-        for word in NO_WORDS_OF_THREE:
+        for word in samples.NO_WORDS_OF_THREE:
             for one, other in ((0, 1), (0, 0), (9, 1), (0, 9), (None, True)):
                 with self.subTest(word=word, one=one, other=other):
                     with self.assertRaises(NoWord):
@@ -237,7 +231,7 @@ class TurnedWeb(unittest.TestCase):
                         turned_web(many, word)
 
     def test_no_word(self):
-        for word in NO_WORDS_OF_THREE:
+        for word in samples.NO_WORDS_OF_THREE:
             with self.subTest(word=word):
                 with self.assertRaises(NoWord):
                     turned_web(3, word)
@@ -277,7 +271,7 @@ class Shows(unittest.TestCase):
                         shows(web, word)
 
     def test_no_word(self):
-        for word in NO_WORDS_OF_THREE:
+        for word in samples.NO_WORDS_OF_THREE:
             with self.subTest(word=word):
                 with self.assertRaises(NoWord):
                     shows((3, ()), word)
@@ -286,23 +280,16 @@ class Shows(unittest.TestCase):
 class NothingIsChanged(unittest.TestCase):
     """[4]: what is handed in stays as it is; the same asked again has the same answer."""
 
-    def twice(self, ask, *things):
-        kept = copy.deepcopy(things)
-        first = ask(*things)
-        self.assertEqual(things, kept)
-        self.assertEqual(ask(*things), first)
-        self.assertEqual(things, kept)
-
     def test_what_is_told(self):
         for thing in samples.NO_WEBS + (PATH, ALL_SIX):
             with self.subTest(thing=thing):
-                self.twice(is_web, thing)
-                self.twice(is_word, thing, PATH)
+                samples.ask_twice(self, is_web, thing)
+                samples.ask_twice(self, is_word, thing, PATH)
         for many, word, ties in SHOWN:
             with self.subTest(word=word):
-                self.twice(turned_web, many, word)
-                self.twice(shows, (many, ties), word)
-        self.twice(take_turns, PATH, "abcdabcd", 3, 1)
+                samples.ask_twice(self, turned_web, many, word)
+                samples.ask_twice(self, shows, (many, ties), word)
+        samples.ask_twice(self, take_turns, PATH, "abcdabcd", 3, 1)
 
     def test_what_is_refused(self):
         for thing in ([4, [[0, 1]]], {"a": [1]}, (4, [(0, 1)])):

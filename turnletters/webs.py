@@ -15,14 +15,19 @@ def is_whole(thing):
     return isinstance(thing, int) and not isinstance(thing, bool)
 
 
+def is_number(thing, least, most):
+    """Tell whether the thing is a whole number from the least to the most."""
+    return is_whole(thing) and least <= thing <= most
+
+
 def is_many(thing):
     """Tell whether the thing is a number of places that a web can have."""
-    return is_whole(thing) and 1 <= thing <= MOST_PLACES
+    return is_number(thing, 1, MOST_PLACES)
 
 
 def is_place(thing, many):
     """Tell whether the thing is one of so many places."""
-    return is_whole(thing) and 0 <= thing < many
+    return is_number(thing, 0, many - 1)
 
 
 def is_tie(thing, many):
@@ -66,10 +71,31 @@ def check_word(thing, many):
         raise NoWord("not a word of these letters")
 
 
+def check_number(thing, least, most):
+    """Refuse what is no whole number from the least to the most."""
+    if not is_number(thing, least, most):
+        raise NoNumber("not a number as it is due")
+
+
 def check_place(thing, many):
     """Refuse what is none of so many places."""
     if not is_place(thing, many):
         raise NoPlace("not a place of the web")
+
+
+def check_places(thing, many):
+    """Refuse what is no rising tuple of one or more of so many places."""
+    if not isinstance(thing, tuple) or not thing:
+        raise NoPlace("not a tuple of places")
+    # Only what surely is a place can be put in order.
+    if not all(is_place(place, many) for place in thing) or not is_rising(thing):
+        raise NoPlace("not rising places of the web")
+
+
+def check_word_of(web, thing):
+    """Refuse what is no web, then what is no word of it."""
+    check_web(web)
+    check_word(thing, web[0])
 
 
 def is_word(thing, web):
@@ -83,18 +109,22 @@ def pairs_of(many):
     return [(one, other) for one in range(many) for other in range(one + 1, many)]
 
 
+def letters_alone(word, some):
+    """Tell the letters of some places alone, as they stand in the word."""
+    letters = [LETTERS[place] for place in some]
+    return "".join([letter for letter in word if letter in letters])
+
+
 def turns_in(word, one, other):
     """Tell whether the letters of two unlike places take turns in the word."""
-    letters = (LETTERS[one], LETTERS[other])
-    alone = [letter for letter in word if letter in letters]
-    return all(letter != after for letter, after in zip(alone, alone[1:]))
+    both = letters_alone(word, (one, other))
+    return all(letter != after for letter, after in zip(both, both[1:]))
 
 
 def take_turns(web, word, one, other):
     """Tell whether two unlike places of the web take turns in its word."""
-    check_web(web)
+    check_word_of(web, word)
     many = web[0]
-    check_word(word, many)
     check_place(one, many)
     check_place(other, many)
     if one == other:
@@ -104,8 +134,7 @@ def take_turns(web, word, one, other):
 
 def turned_web(many, word):
     """Tell the web of so many places that the word shows."""
-    if not is_many(many):
-        raise NoNumber("not a number of places")
+    check_number(many, 1, MOST_PLACES)
     check_word(word, many)
     return many, tuple([(one, other) for one, other in pairs_of(many) if turns_in(word, one, other)])
 
