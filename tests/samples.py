@@ -2,6 +2,7 @@
 
 import copy
 from itertools import combinations, permutations, product
+from random import Random
 
 LETTERS = "abcdef"
 
@@ -49,6 +50,9 @@ NO_WORDS_OF_THREE = (
 
 # What is no number whatever the numbers are that are due.
 NO_NUMBERS = (-1, -2, 10 ** 29, -10 ** 29, True, False, None, "", "0", "1", "a", [], [1], (), (0,), (1,), {}, {1: 1})
+
+# What is no number from 1 to 2.
+NO_ONE_OR_TWO = NO_NUMBERS[:-1] + (0, 3, 4, "2", [2], (2,), {2: 2}, {1: 1})
 
 # What is no rising tuple of one or more of four places.
 NO_SOMES_OF_FOUR = (
@@ -155,3 +159,29 @@ def ask_twice(test, ask, *things):
     test.assertEqual(things, kept)
     test.assertEqual(ask(*things), first)
     test.assertEqual(things, kept)
+
+
+def each_so_often(many, often):
+    """All words with each letter of so many places just so often, as texts are ordered."""
+    return arranged(LETTERS[:many] * often)
+
+
+def arranged(letters):
+    """All texts of these letters, as texts are ordered."""
+    if not letters:
+        return [""]
+    return [letter + text for letter in sorted(set(letters)) for text in arranged(letters.replace(letter, "", 1))]
+
+
+def mixed_words(many, often, seed=1):
+    """Some words with each letter of so many places so often, mixed up, the same ones for the same seed."""
+    mixer = Random(seed)
+    for _ in range(40):
+        signs = list(LETTERS[:many] * often)
+        mixer.shuffle(signs)
+        yield "".join(signs)
+
+
+def near(web, place):
+    """The set of the places that are tied to the place."""
+    return {a + b - place for a, b in web[1] if place in (a, b)}

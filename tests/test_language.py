@@ -21,6 +21,13 @@ INTERFACE = {
     "runs": {"is_run": ["thing", "web"], "is_fault": ["thing", "web", "run"], "fault_of": ["web", "run"],
              "first_good": ["web"], "good_many": ["web"]},
     "search": {"word_for": ["web"]},
+    "often": {"first_even": ["web", "number"], "even_many": ["web", "number"], "least_letters": ["web"],
+              "shortest": ["web"]},
+    "orders": {"is_order_word": ["web", "word"], "orders_of": ["web", "word"], "order_word": ["web", "number"],
+               "passes_on": ["web", "run"], "first_passing": ["web"]},
+    "chords": {"is_chord_word": ["web", "word"], "web_at": ["web", "place"], "word_at": ["web", "word", "place"],
+               "web_by_two": ["web", "one", "other"], "word_by_two": ["web", "word", "one", "other"],
+               "are_alike": ["web", "word", "other"], "first_alike": ["web", "word"]},
 }
 ERRORS = ["TurnError", "NoWeb", "NoWord", "NoPlace", "NoNumber", "NoRun", "TooMany", "NoLine", "NoText"]
 
@@ -30,7 +37,8 @@ BUILTINS = set(
 METHODS = set(
     "append clear copy count endswith extend find get index insert isalnum isalpha isdigit islower isspace isupper "
     "items join keys ljust lower lstrip partition pop remove replace reverse rfind rjust rpartition rsplit rstrip "
-    "setdefault split splitlines startswith strip update upper values zfill bit_length add discard sort __init__".split())
+    "setdefault split splitlines startswith strip update upper values zfill bit_length add discard sort rindex "
+    "__init__".split())
 BARRED_WORDS = re.compile(
     r"\b(typing|typing_extensions|enum|Enum|Generic|Protocol|ABC|namedtuple|abstractmethod|law|open|input|register|mro|"
     r"elements|eval|exec|globals|locals|vars)\b|dataclass|overload|contextmanager|_wall|_WallAttr")
@@ -90,6 +98,8 @@ class Files(unittest.TestCase):
             tree = ast.parse(text)
             known = {alias.name for node in tree.body if isinstance(node, ast.ImportFrom) for alias in node.names}
             known |= {node.name for node in ast.walk(tree) if isinstance(node, (ast.FunctionDef, ast.ClassDef))}
+            # A function may be handed to another one.
+            known |= {node.arg for node in ast.walk(tree) if isinstance(node, ast.arg)}
             for node in ast.walk(tree):
                 if isinstance(node, ast.Call) and isinstance(node.func, ast.Name):
                     with self.subTest(name=name, line=node.lineno):

@@ -103,15 +103,22 @@ def fault_of(web, run):
     return some_fault(web, run)
 
 
-def first_behind(web, begun):
-    """Tell the first good run that begins as told, None where there is none."""
-    # A fault stays one whatever directions come behind: no need to go on from it.
-    if some_fault(web, begun) is not None:
+def is_good_so_far(web, begun):
+    """Tell whether a run, perhaps only begun, has no fault."""
+    return some_fault(web, begun) is None
+
+
+def first_run(web, begun, is_so):
+    """Tell the first run that begins as told and is so, as tuples are ordered, None where there is none.
+
+    What is not so as far as it is begun must not be so whatever directions come behind.
+    """
+    if not is_so(web, begun):
         return None
     if len(begun) == len(web[1]):
         return begun
     for mark in (-1, 1):
-        run = first_behind(web, begun + (mark,))
+        run = first_run(web, begun + (mark,), is_so)
         if run is not None:
             return run
     return None
@@ -120,12 +127,13 @@ def first_behind(web, begun):
 def first_good(web):
     """Tell the first good run of the web, as tuples are ordered, None where there is none."""
     check_web(web)
-    return first_behind(web, ())
+    # A fault stays one whatever directions come behind.
+    return first_run(web, (), is_good_so_far)
 
 
 def many_behind(web, begun):
     """Tell how many good runs begin as told."""
-    if some_fault(web, begun) is not None:
+    if not is_good_so_far(web, begun):
         return 0
     if len(begun) == len(web[1]):
         return 1

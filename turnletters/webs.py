@@ -3,10 +3,14 @@
 The checks here refuse what is handed in to any file of the package.
 """
 
-from turnletters.errors import NoNumber, NoPlace, NoWeb, NoWord
+from turnletters.errors import NoNumber, NoPlace, NoWeb, NoWord, TooMany
 
 LETTERS = "abcdef"
 MOST_PLACES = 6
+
+# Where all words are gone through, more places than these would take too long.
+MOST_SEARCHED = 4
+MOST_COUNTED = 3
 
 
 def is_whole(thing):
@@ -92,6 +96,12 @@ def check_places(thing, many):
         raise NoPlace("not rising places of the web")
 
 
+def check_few(web, most):
+    """Refuse a web of more than so many places."""
+    if web[0] > most:
+        raise TooMany("more places than are taken")
+
+
 def check_word_of(web, thing):
     """Refuse what is no web, then what is no word of it."""
     check_web(web)
@@ -107,6 +117,20 @@ def is_word(thing, web):
 def pairs_of(many):
     """Tell all pairs of so many places, the lesser place first, as a rising list."""
     return [(one, other) for one in range(many) for other in range(one + 1, many)]
+
+
+def tied_to(web, place):
+    """Tell the places that are tied to the place, as a rising list."""
+    many, ties = web
+    return [other for other in range(many) if (place, other) in ties or (other, place) in ties]
+
+
+def all_words(many, number):
+    """Tell all words of so many letters with the letters of so many places, as a rising list."""
+    texts = [""]
+    for _ in range(number):
+        texts = [text + letter for text in texts for letter in LETTERS[:many]]
+    return [text for text in texts if has_letters(text, many)]
 
 
 def letters_alone(word, some):
