@@ -182,6 +182,15 @@ def mixed_words(many, often, seed=1):
         yield "".join(signs)
 
 
+def rough_words(many, most=12, seed=1):
+    """Some words of so many places, of many to most letters, not all of them even, the same ones for the same seed."""
+    mixer = Random(seed)
+    for at in range(40):
+        signs = list(LETTERS[:many]) + [mixer.choice(LETTERS[:many]) for _ in range(at % (most - many + 1))]
+        mixer.shuffle(signs)
+        yield "".join(signs)
+
+
 def near(web, place):
     """The set of the places that are tied to the place."""
     return {a + b - place for a, b in web[1] if place in (a, b)}

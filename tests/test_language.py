@@ -1,6 +1,7 @@
 """What ../shared/LANGUAGE.md asks of the package's files, as far as a look at them can tell."""
 
 import ast
+import builtins
 import inspect
 import os
 import re
@@ -28,6 +29,13 @@ INTERFACE = {
     "chords": {"is_chord_word": ["web", "word"], "web_at": ["web", "place"], "word_at": ["web", "word", "place"],
                "web_by_two": ["web", "one", "other"], "word_by_two": ["web", "word", "one", "other"],
                "are_alike": ["web", "word", "other"], "first_alike": ["web", "word"]},
+    "changes": {"without": ["web", "place"], "word_without": ["web", "word", "place"], "beside": ["web", "other"],
+                "word_beside": ["web", "word", "other", "more"], "with_leaf": ["web", "place"],
+                "with_twin": ["web", "place"], "with_double": ["web", "place"], "leaf_word": ["web", "word", "place"],
+                "twin_word": ["web", "word", "place"], "double_word": ["web", "word", "place"]},
+    "every": {"words_of": ["web", "number"], "words_many": ["web", "number"], "kinds": ["web", "number"],
+              "by_webs": ["many", "number"]},
+    "barred": {"is_bar": ["thing", "web"], "bar_for": ["web"], "barring_place": ["web"]},
 }
 ERRORS = ["TurnError", "NoWeb", "NoWord", "NoPlace", "NoNumber", "NoRun", "TooMany", "NoLine", "NoText"]
 
@@ -100,13 +108,39 @@ class Files(unittest.TestCase):
             known |= {node.name for node in ast.walk(tree) if isinstance(node, (ast.FunctionDef, ast.ClassDef))}
             # A function may be handed to another one.
             known |= {node.arg for node in ast.walk(tree) if isinstance(node, ast.arg)}
+            # Or taken from a table, and given a name to be called by.
+            known |= {node.targets[0].id for node in ast.walk(tree) if isinstance(node, ast.Assign)
+                      and isinstance(node.value, ast.Subscript) and isinstance(node.targets[0], ast.Name)}
             for node in ast.walk(tree):
                 if isinstance(node, ast.Call) and isinstance(node.func, ast.Name):
                     with self.subTest(name=name, line=node.lineno):
                         self.assertIn(node.func.id, BUILTINS | known)
                 if isinstance(node, ast.Call) and isinstance(node.func, ast.Attribute):
                     with self.subTest(name=name, line=node.lineno):
-                        self.assertIn(node.func.attr, METHODS)
+                        self.assertIn(node.func.attr, METHODS | known)
+
+
+    def test_no_name_means_two_things(self):
+        for name, text in files():
+            tree = ast.parse(text)
+            taken = {alias.name for node in tree.body if isinstance(node, ast.ImportFrom) for alias in node.names}
+            taken |= {node.name for node in tree.body if isinstance(node, ast.ClassDef)}
+            own = [node.name for node in tree.body if isinstance(node, (ast.FunctionDef, ast.ClassDef))]
+            own += [node.targets[0].id for node in tree.body if isinstance(node, ast.Assign)]
+            local = {node.arg for node in ast.walk(tree) if isinstance(node, ast.arg)}
+            local |= {node.id for node in ast.walk(tree) if isinstance(node, ast.Name) and isinstance(node.ctx, ast.Store)}
+            with self.subTest(name=name):
+                self.assertEqual(len(own), len(set(own)))
+                self.assertFalse(local & taken)
+                self.assertFalse((local | set(own)) & set(dir(builtins)))
+
+    def test_sets_are_not_gone_over(self):
+        for name, text in files():
+            for node in ast.walk(ast.parse(text)):
+                with self.subTest(name=name, line=getattr(node, "lineno", 0)):
+                    if isinstance(node, (ast.For, ast.comprehension)):
+                        self.assertNotIsInstance(node.iter, (ast.Set, ast.SetComp))
+                        self.assertFalse(ast.unparse(node.iter).startswith(("set(", "frozenset(")))
 
 
 class Imports(unittest.TestCase):
@@ -154,6 +188,13 @@ class Interface(unittest.TestCase):
             with self.subTest(name=name):
                 self.assertEqual(getattr(module, name).__module__, module.__name__)
         self.assertEqual(list(inspect.signature(module.NoText).parameters), ["at"])
+
+    def test_the_desk_has_its_methods_itself(self):
+        desk = import_module("turnletters.desk").Desk
+        self.assertEqual(desk.__module__, "turnletters.desk")
+        self.assertEqual(list(inspect.signature(desk).parameters), [])
+        self.assertIn("say", vars(desk))
+        self.assertEqual(list(inspect.signature(desk.say).parameters), ["self", "line"])
 
 
 if __name__ == "__main__":

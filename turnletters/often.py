@@ -1,15 +1,8 @@
 """Words that show a web and have each letter so often, and its shortest words."""
 
 from turnletters.webs import (
-    LETTERS, MOST_COUNTED, MOST_SEARCHED, all_words, check_few, check_number, check_web, has_letters, turned_web,
-    turns_in)
+    LETTERS, MOST_COUNTED, MOST_SEARCHED, all_words, check_few, check_number, check_web, has_letters, shows, turns_in)
 from turnletters.words import is_even
-
-
-def is_shown(web, text):
-    """Tell whether the text is a word of the web that shows it."""
-    many = web[0]
-    return has_letters(text, many) and turned_web(many, text) == web
 
 
 def first_begun(web, begun, number, most):
@@ -19,7 +12,7 @@ def first_begun(web, begun, number, most):
     if not all(turns_in(begun, one, other) for one, other in ties):
         return None
     if len(begun) == number:
-        return begun if is_shown(web, begun) else None
+        return begun if has_letters(begun, many) and shows(web, begun) else None
     for letter in LETTERS[:many]:
         if begun.count(letter) < most:
             word = first_begun(web, begun + letter, number, most)
@@ -32,7 +25,7 @@ def first_even(web, number):
     """Tell the first word, as texts are ordered, that has each letter so often and shows the web, None without one."""
     check_web(web)
     check_number(number, 1, 2)
-    check_few(web, MOST_SEARCHED)
+    check_few(web[0], MOST_SEARCHED)
     return first_begun(web, "", number * web[0], number)
 
 
@@ -40,15 +33,15 @@ def even_many(web, number):
     """Tell how many words have each letter so often and show the web."""
     check_web(web)
     check_number(number, 1, 2)
-    check_few(web, MOST_COUNTED)
+    check_few(web[0], MOST_COUNTED)
     words = all_words(web[0], number * web[0])
-    return len([word for word in words if is_even(web, word) and is_shown(web, word)])
+    return len([word for word in words if is_even(web, word) and shows(web, word)])
 
 
 def shortest(web):
     """Tell the first word, as texts are ordered, of those that show the web with the fewest letters."""
     check_web(web)
-    check_few(web, MOST_SEARCHED)
+    check_few(web[0], MOST_SEARCHED)
     number = web[0]
     word = first_begun(web, "", number, number)
     # So few places always have a word with each letter twice, so this ends.

@@ -42,7 +42,7 @@ def order_word(web, number):
     """Tell the first word, as texts are ordered, of so many orders that shows the web, None where there is none."""
     check_web(web)
     check_number(number, 1, 2)
-    check_few(web, MOST_SEARCHED)
+    check_few(web[0], MOST_SEARCHED)
     many = web[0]
     for word in order_words(many, number):
         if turned_web(many, word) == web:

@@ -26,13 +26,16 @@ def check_run(web, thing):
 
 
 def ways_of(web, run):
-    """Tell, place by place, the places that each leads to by a run; by one only begun, other ties lead nowhere."""
+    """Tell, place by place, the places that each leads to by a run.
+
+    By one only begun, or with 0 for some ties, the ties without a direction lead nowhere.
+    """
     many, ties = web
     ways = [[] for _ in range(many)]
     for (one, other), mark in zip(ties, run):
         if mark == 1:
             ways[one].append(other)
-        else:
+        elif mark == -1:
             ways[other].append(one)
     return ways
 
@@ -64,14 +67,18 @@ def fault_by(path, web, ways):
     return None
 
 
+def is_fault_by(thing, web, ways):
+    """Tell whether the thing is a fault all ties of which lead as told."""
+    if not isinstance(thing, tuple) or len(thing) != 2:
+        return False
+    path = thing[1]
+    return is_path(path, ways) and fault_by(path, web, ways) == thing
+
+
 def is_fault(thing, web, run):
     """Tell whether the thing is a fault of the run."""
     check_run(web, run)
-    if not isinstance(thing, tuple) or len(thing) != 2:
-        return False
-    ways = ways_of(web, run)
-    path = thing[1]
-    return is_path(path, ways) and fault_by(path, web, ways) == thing
+    return is_fault_by(thing, web, ways_of(web, run))
 
 
 def fault_behind(path, web, ways):

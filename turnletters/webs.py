@@ -96,9 +96,9 @@ def check_places(thing, many):
         raise NoPlace("not rising places of the web")
 
 
-def check_few(web, most):
-    """Refuse a web of more than so many places."""
-    if web[0] > most:
+def check_few(many, most):
+    """Refuse more places than told."""
+    if many > most:
         raise TooMany("more places than are taken")
 
 
